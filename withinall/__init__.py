@@ -1,0 +1,1 @@
+"""Withinall: the least table that no step leads out of."""
