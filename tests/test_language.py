@@ -28,7 +28,7 @@ INTERFACE = {
 BUILTINS = set("""len range enumerate zip min max sum abs sorted reversed int str bool bytes list tuple dict set frozenset
 isinstance ord chr repr any all divmod pow getattr hasattr setattr map iter next Exception ValueError TypeError KeyError
 IndexError LookupError ZeroDivisionError ArithmeticError OverflowError RuntimeError NotImplementedError StopIteration
-NotImplemented""".split())
+NotImplemented super""".split())
 
 METHODS = set("""append clear copy count endswith extend find get index insert isalnum isalpha isdigit islower isspace isupper
 items join keys ljust lower lstrip partition pop remove replace reverse rfind rjust rpartition rsplit rstrip setdefault split

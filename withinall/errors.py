@@ -10,7 +10,7 @@ class NoProgram(WithinError):
     """What is no program; spot tells the first part that isn't so."""
 
     def __init__(self, spot):
-        WithinError.__init__(self, "this is no program")
+        super().__init__("this is no program")
         self.spot = spot
 
 
@@ -18,7 +18,7 @@ class NoText(WithinError):
     """What is no text of a program; row is the number of the first row that isn't so."""
 
     def __init__(self, row):
-        WithinError.__init__(self, "this is no text of a program")
+        super().__init__("this is no text of a program")
         self.row = row
 
 
@@ -26,7 +26,7 @@ class NoPlace(WithinError):
     """What is no such place; place is what was asked for."""
 
     def __init__(self, place):
-        WithinError.__init__(self, "this is no such place")
+        super().__init__("this is no such place")
         self.place = place
 
 
@@ -34,5 +34,5 @@ class NoRow(WithinError):
     """What is no row for the desk; row is what was said."""
 
     def __init__(self, row):
-        WithinError.__init__(self, "this is no such row")
+        super().__init__("this is no such row")
         self.row = row
