@@ -155,9 +155,8 @@ def paths(thing, path=()):
             yield from paths(part, path + (at,))
 
 
-def made_act(chance, width, fingers, rows, labels, callees):
+def made_act(chance, width, fingers, rows, labels, callees, plain=("u", "v", "x", "y")):
     """Some act that is let by in a def with these names."""
-    plain = ("u", "v", "x", "y")
     numbers = plain + fingers
 
     def word():
@@ -220,6 +219,87 @@ def made_program(seed):
         acts.append(chance.choice((("back", "x"), ("go", labels[0]))))
         defs.append((name, params, fingers, rows, tuple(zip(labels, acts))))
     return (width, tuple(defs))
+
+
+def small_program(seed):
+    """Some program of few words, names and steps, so that all its states may be gone through."""
+    chance = random.Random(seed)
+    width = 1 if seed % 4 else 2
+    kept = [(("p",), ("a",)), ((), ("a",)), (("p",), ())]
+    if width == 1:
+        kept += [(("p", "q"), ("a",)), (("p", "q"), ()), (("p",), ("a", "b"))]
+    heads = []
+    for name in ("main", "f", "g")[:chance.choice((1, 2, 2, 3))]:
+        fingers, rows = chance.choice(kept)
+        params = () if name == "main" else tuple(chance.sample(("x",) + fingers + rows, chance.randint(0, 2)))
+        heads.append((name, params, fingers, rows))
+    defs = []
+    for name, params, fingers, rows in heads:
+        labels = tuple(sorted(chance.sample(range(30), chance.randint(6, 14))))
+        acts = [_small_act(chance, width, fingers, rows, labels, heads) for _ in labels[1:]]
+        acts.append(chance.choice((("back", "x"), ("back", "y"), ("go", labels[0]))))
+        if name == "main":
+            acts[:2] = [("ask", "x", chance.randint(-width, 0), width), ("ask", "y", chance.randint(0, 1), 1)]
+        if name == "main" and rows:
+            acts[2] = ("row", rows[0], "y")
+        defs.append((name, params, fingers, rows, tuple(zip(labels, acts))))
+    return (width, tuple(defs))
+
+
+def _small_act(chance, width, fingers, rows, labels, callees):
+    """Some act, less often one that ends much."""
+    act = made_act(chance, width, fingers, rows, labels, callees, ("x", "y"))
+    if act[0] in ("check", "go", "set") and chance.random() < 0.7:
+        act = made_act(chance, width, fingers, rows, labels, callees, ("x", "y"))
+    return act
+
+
+def great_program(seed):
+    """Some program as great as may be: six defs of thirty steps and eleven names each, of the greatest width."""
+    chance = random.Random(seed)
+    names = ("main", "f", "g", "h", "i", "j")
+    defs = []
+    for number, name in enumerate(names):
+        labels = tuple(sorted(chance.sample(range(10000), 30)))
+        acts = [("ask", "u", -31, 31) if name == "main" else ("if", "u", "<=", 0, labels[29]),
+                ("ask", "w", 0, 31), ("row", "b", "w"), ("ask", "x", -31, 31)]
+        while len(acts) < 26:
+            acts += _guarded_acts(chance, names[1:], len(acts), labels)
+        # The next def is come to, and all is gone through again.
+        acts[26:] = [("call", "v", (*names, "f")[number + 1], ("p", "a", "x", "y", "q")), ("plus", "z", "v", "y"),
+                     ("if", "z", "<=", chance.randint(-5, 31), labels[chance.choice((1, 4))])]
+        acts.append(("go", labels[4]) if name == "main" and chance.random() < 0.3 else ("back", "u"))
+        params = () if name == "main" else ("p", "a", "u", "v", "q")
+        defs.append((name, params, ("p", "q", "r"), ("a", "b"), tuple(zip(labels, acts))))
+    return (31, tuple(defs))
+
+
+def _guarded_acts(chance, callees, at, labels):
+    """Some acts, those that may fault behind tests that go past them; the first of them is the at-th of its def."""
+    number, plain, other = chance.choice("uvwxyzpqr"), chance.choice("uvwxyz"), chance.choice("uvwxyzpqr")
+    finger, row, lower = chance.choice("pqr"), chance.choice("ab"), chance.choice("pqr")
+
+    def past(steps):
+        return labels[min(at + steps, 29)]
+
+    return chance.choice((
+        [("if", 30, "<=", number, past(2)), ("add", number, number, 1)],
+        [("if", number, "<=", -30, past(2)), ("add", number, number, -1)],
+        [("if", number, "<", 0, past(2)), ("row", row, number)],
+        [("if", finger, "<", 0, past(4)), ("length", plain, row), ("if", plain, "<=", finger, past(4)),
+         ("get", plain, row, finger)],
+        [("if", finger, "<", 0, past(4)), ("length", plain, row), ("if", plain, "<=", finger, past(4)),
+         ("put", row, finger, number)],
+        [("length", number, row)],
+        [("mid", finger, finger, lower)],
+        [("mid", plain, number, other)],
+        [("add", finger, lower, 0)],
+        [("if", number, chance.choice(("<", "<=")), other, chance.choice(labels))],
+        [("if", number, "<", chance.randint(-31, 31), chance.choice(labels))],
+        [("ask", plain, *sorted(chance.choices(range(-31, 32), k=2)))],
+        [("call", plain, chance.choice(callees), (finger, row, number, other, lower))],
+        [("ask", plain, -2, 31), (chance.choice(PLAIN_THREE), "x", chance.choice("uvwxyz"), plain)],
+    ))
 
 
 def _made_names(chance):

@@ -23,6 +23,15 @@ INTERFACE = {
         "behind": "(program, place, state, word)", "run": "(program, words=(), *, steps=200)",
         "trace": "(program, words=(), *, steps=200)",
     },
+    "boxes": {
+        "box_of": "(program, name, state)", "lies": "(box, state)", "hull": "(one, other)", "met": "(one, other)",
+        "tight": "(box, *, width)", "within": "(one, other)",
+    },
+    "sums": {"pairs": "(word, one, other, *, width)", "twice": "(word, one, *, width)"},
+    "leads": {
+        "leads": "(program, place, box)", "goes_behind": "(program, place, box, back)", "backs": "(program, place, box)",
+    },
+    "least": {"least": "(program)"},
 }
 
 BUILTINS = set("""len range enumerate zip min max sum abs sorted reversed int str bool bytes list tuple dict set frozenset
