@@ -23,20 +23,24 @@ def pairs(word, one, other, *, width):
 def twice(word, one, *, width):
     """The stretches of the results and of the words of which the act of the word and itself doesn't fault."""
     words = _words_in(one, width)
-    if words is not None and word == "plus":
-        words = _common(words, (-(width // 2), width // 2))
-    elif words is not None and word == "times":
-        root = _root(width)
-        words = _common(words, (-root, root))
-    elif words is not None and word in ("over", "rest"):
-        words = _without_nought(words)
-    if words is None:
+    let = None if words is None else _let_twice(word, words, width)
+    if let is None:
         return (None, None)
     if word == "plus":
-        return ((2 * words[0], 2 * words[1]), words)
+        return ((2 * let[0], 2 * let[1]), let)
     if word == "times":
-        return ((_nearest_to_nought(words) ** 2, max(words[0] ** 2, words[1] ** 2)), words)
-    return ((1, 1) if word == "over" else (0, 0), words)
+        return ((_nearest_to_nought(let) ** 2, max(let[0] ** 2, let[1] ** 2)), let)
+    return ((1, 1) if word == "over" else (0, 0), let)
+
+
+def _let_twice(word, words, width):
+    """Those of the words of which the act of the word and itself doesn't fault, None where there is none."""
+    if word == "minus":
+        return words
+    if word in ("over", "rest"):
+        return _without_nought(words)
+    most = width // 2 if word == "plus" else _root(width)
+    return _common(words, (-most, most))
 
 
 def _root(width):
