@@ -32,7 +32,20 @@ INTERFACE = {
         "leads": "(program, place, box)", "goes_behind": "(program, place, box, back)", "backs": "(program, place, box)",
     },
     "least": {"least": "(program)"},
+    "papers": {
+        "led_out": "(program, table)", "is_paper": "(program, table, thing)", "steps_of": "(program)",
+        "wrong_step": "(program, table, rows)",
+    },
+    "looks": {
+        "looks": "(program)", "safe": "(program, table)", "failing": "(program, table, place)",
+        "first_trial": "(program, place, trials, *, steps=200)",
+    },
+    "groups": {"groups": "(program)"},
+    "books": {"Book": "()"},
 }
+
+# The methods that stand in the body of the class itself.
+CLASSES = {("books", "Book"): {"tell": "(self, program)", "rows": "(self)", "__len__": "(self)"}}
 
 BUILTINS = set("""len range enumerate zip min max sum abs sorted reversed int str bool bytes list tuple dict set frozenset
 isinstance ord chr repr any all divmod pow getattr hasattr setattr map iter next Exception ValueError TypeError KeyError
@@ -63,6 +76,12 @@ class TestInterface(unittest.TestCase):
                 self.assertEqual(thing.__module__, "withinall." + file)
                 if arguments is not None:
                     self.assertEqual(str(inspect.signature(thing)), arguments, name)
+
+    def test_methods_of_classes(self):
+        for (file, name), methods in CLASSES.items():
+            thing = getattr(importlib.import_module("withinall." + file), name)
+            for method, arguments in methods.items():
+                self.assertEqual(str(inspect.signature(vars(thing)[method])), arguments, method)
 
 
 class TestFiles(unittest.TestCase):

@@ -6,8 +6,12 @@ from withinall.programs import def_at, numbers_of
 def box_of(program, name, state):
     """The box of this one state of the def that has the name."""
     definition = def_at(program, name)
-    fingers, rows = definition[2:4]
-    numbers = {number: (state[number], state[number]) for number in numbers_of(definition)}
+    return boxed(state, numbers_of(definition), definition[2], definition[3])
+
+
+def boxed(state, names, fingers, rows):
+    """The box of this one state of a def whose numbers have these names."""
+    numbers = {name: (state[name], state[name]) for name in names}
     kept = {row: (len(state[row]), len(state[row]), _cells_of(state[row])) for row in rows}
     rooms = {(finger, row): state[finger] - len(state[row]) for finger in fingers for row in rows}
     return (numbers, kept, rooms)
