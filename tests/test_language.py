@@ -42,10 +42,17 @@ INTERFACE = {
     },
     "groups": {"groups": "(program)"},
     "books": {"Book": "()"},
+    "machines": {"compiled": "(program, *, left_out=())", "run_rows": "(rows, words=(), *, steps=200)"},
+    "loops": {"led": "(text)"},
+    "plays": {"play": "(text, words=(), *, steps=200)"},
+    "desk": {"Desk": "()"},
 }
 
 # The methods that stand in the body of the class itself.
-CLASSES = {("books", "Book"): {"tell": "(self, program)", "rows": "(self)", "__len__": "(self)"}}
+CLASSES = {
+    ("books", "Book"): {"tell": "(self, program)", "rows": "(self)", "__len__": "(self)"},
+    ("desk", "Desk"): {"say": "(self, row)"},
+}
 
 BUILTINS = set("""len range enumerate zip min max sum abs sorted reversed int str bool bytes list tuple dict set frozenset
 isinstance ord chr repr any all divmod pow getattr hasattr setattr map iter next Exception ValueError TypeError KeyError
@@ -160,6 +167,27 @@ class TestCode(unittest.TestCase):
             for node in ast.walk(tree):
                 if isinstance(node, ast.Name) and hasattr(builtins, node.id):
                     self.assertIn(node.id, BUILTINS)
+
+    def test_locals_are_no_imports_and_no_classes(self):
+        for file, tree in trees().items():
+            taken = {alias.name for node in tree.body if isinstance(node, ast.ImportFrom) for alias in node.names}
+            taken |= {node.name for node in tree.body if isinstance(node, ast.ClassDef)}
+            for node in ast.walk(tree):
+                if isinstance(node, (ast.arg, ast.Name)) and not isinstance(getattr(node, "ctx", None), ast.Load):
+                    self.assertNotIn(getattr(node, "arg", None) or getattr(node, "id", None), taken, file)
+
+    def test_no_generators_and_no_sets_gone_through(self):
+        for file, tree in trees().items():
+            for node in ast.walk(tree):
+                self.assertNotIsInstance(node, (ast.Yield, ast.YieldFrom, ast.GeneratorExp), file)
+                if isinstance(node, (ast.For, ast.comprehension)):
+                    self.assertNotIsInstance(node.iter, (ast.Set, ast.SetComp), file)
+                    if isinstance(node.iter, ast.Call) and isinstance(node.iter.func, ast.Name):
+                        self.assertNotEqual(node.iter.func.id, "set", file)
+                if isinstance(node, ast.Compare):
+                    for op, side in zip(node.ops, node.comparators):
+                        if isinstance(op, (ast.Is, ast.IsNot)):
+                            self.assertIsInstance(side, ast.Constant, file)
 
     def test_methods(self):
         all_trees = trees()

@@ -10,8 +10,8 @@ from cases import OwnCase
 from samples import BACKWARDS, DEEP, EVERY, FACTORIAL, SAMPLES, THINGS, alone, great_program, made_program, small_program
 from samples import with_part
 from test_least import COUNT, HALVES, RING
-from withinall.boxes import box_of, hull, met, tight
-from withinall.leads import leads
+from withinall.boxes import box_of, hull, met, tight, within
+from withinall.leads import backs, goes_behind, leads
 from withinall.least import least
 from withinall.papers import is_paper, led_out
 from withinall.programs import act_at, def_at, first_place, numbers_of, places_of
@@ -230,10 +230,28 @@ def table_that_holds(program, chance):
     for place in chance.sample(sorted(table), min(3, len(table))):
         box = states.odd_box(chance, def_at(program, place[0]), width)
         table[place] = hull(table[place], tight(box, width=width))
-    while (paper := led_out(program, table)) is not None:
-        place, state = judging.made_by(program, paper)
-        table[place] = hull(table[place], box_of(program, place[0], state))
+    before = None
+    while before != table:
+        before = dict(table)
+        for place in before:
+            for other, box in all_led(program, table, place):
+                if not within(box, table[other]):
+                    table[other] = hull(table[other], box)
     return table
+
+
+def all_led(program, table, place):
+    """All that the table's box at the place leads to, with the words that go back by the table."""
+    box = table[place]
+    if box is None:
+        return []
+    found = leads(program, place, box)
+    act = act_at(program, place)
+    for back in table if act[0] == "call" else ():
+        if back[0] == act[2] and act_at(program, back)[0] == "back" and table[back] is not None:
+            words = backs(program, back, table[back])
+            found += goes_behind(program, place, box, words) if words is not None else []
+    return found
 
 
 class TestIsPaper(PapersCase):
@@ -372,6 +390,25 @@ class TestIsPaper(PapersCase):
             if chance.random() < 0.5:
                 self.look(program, table)
         self.assertGreater(papers, 400)
+
+    def test_beyond_the_words(self):
+        """Whatever a box lets in: states are of words, and of rows of as many as the width."""
+        numbers, rows, rooms = self.out["main", 1]
+        wide = {**self.out, ("main", 0): ({"x": (-9, 9), "y": (-9, 9)}, {"b": (0, 9, (-9, 9))}, {})}
+        paper = ("out", ("main", 0), {"x": 2, "y": 0, "b": (0, 0)}, 1)
+        self.ask(wide, paper, True)
+        for name, worth in (("x", 3), ("y", -3), ("b", (0, 0, 0)), ("b", (0, 3)), ("b", (-3,))):
+            self.ask(wide, with_part(paper, (2,), {**paper[2], name: worth}), False)
+        self.ask(wide, with_part(paper, (2,), {**paper[2], "b": (2, -2)}), True)
+
+    def test_a_word_and_parts_of_another_kind(self):
+        """What is out of a call by one step is no paper with the parts of what is behind it, nor the other way."""
+        table, paper = self.papers[1]
+        other = {"u": 1, "p": 2, "a": (0, 0)}
+        for word in ("out", "behind", "begins"):
+            self.ask(table, (word, *paper[1:3], ("f", 2), other), False)
+            self.ask(table, (word, *paper[1:3], 0), word == "out")
+            self.ask(table, (word, *paper[1:3], 0, 0), False)
 
     def test_states_beyond_the_table(self):
         """A state that doesn't lie in the table bears no paper, whatever it leads to."""

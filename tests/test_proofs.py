@@ -184,6 +184,8 @@ class TestWrongStep(StepsCase):
         self.assertEqual(self.judge(TWO, table, steps[:at] + [("behind", place, state, back, {**other, "u": 2, "p": 2})]), at)
         self.assertEqual(self.judge(TWO, table, steps[:at] + [("behind", ("main", 2), state, back, other)]), at)
         self.assertEqual(self.judge(TWO, table, [("behind", place, state, back, other)]), 0)
+        self.assertEqual(self.judge(TWO, table, steps[:at] + [("out", place, state, back, other)]), at)
+        self.assertEqual(self.judge(TWO, table, steps[:at] + [("behind", place, state, 0)]), at)
 
     def test_one_part_otherwise(self):
         for program in (TWO, COUNT, HALVES):

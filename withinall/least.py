@@ -47,9 +47,6 @@ class Search:
     def keep(self, place, box):
         """Take the box as the one that the place has."""
         self.table[place] = box
-        act = self.spots[place].act
-        if act[0] == "back" and box is not None:
-            self._take_back(place[0], box[0][act[1]])
 
     def _put(self, place, box):
         """Widen the box at the place, where it is being reckoned, by this one; look at it again if that changes it."""

@@ -2,6 +2,7 @@
 
 from withinall.acts import is_word
 from withinall.programs import act_at, def_at, first_place, names_of, next_place
+from withinall.sums import sum_of
 
 MOST_CALLS = 20
 
@@ -63,15 +64,9 @@ def _fault(width, act, state):
 
 def _result(act, state):
     """What the sum of the act comes to, whether it is a word or not."""
-    first = state[act[2]]
-    second = act[3] if act[0] == "add" else state[act[3]]
-    if act[0] in ("add", "plus"):
-        return first + second
-    if act[0] == "minus":
-        return first - second
-    if act[0] == "times":
-        return first * second
-    return first // second if act[0] == "over" else first % second
+    if act[0] == "add":
+        return state[act[2]] + act[3]
+    return sum_of(act[0], state[act[2]], state[act[3]])
 
 
 def _changed(act, state, word):

@@ -1,6 +1,17 @@
 """Sums: from what to what the acts of two words lead, and which of the words they let through."""
 
 
+def sum_of(word, first, second):
+    """What the act of the two words comes to, whether that is a word or not; over and rest of no nought."""
+    if word == "plus":
+        return first + second
+    if word == "minus":
+        return first - second
+    if word == "times":
+        return first * second
+    return first // second if word == "over" else first % second
+
+
 def pairs(word, one, other, *, width):
     """The stretches of the results, the first and the second words of all pairs of which the act doesn't fault."""
     first = _words_in(one, width)

@@ -60,7 +60,7 @@ def read(text):
 def _width_read(rows):
     """The width that the first row tells."""
     words = rows[0]
-    if len(words) != 2 or words[0] != "width" or not _is_number(words[1]):
+    if len(words) != 2 or words[0] != "width" or not is_number(words[1]):
         raise NoText(0)
     return int(words[1])
 
@@ -102,7 +102,7 @@ def _steps_read(rows, at):
 
 def _step_read(words, at):
     """The step that the words of the row with this number write."""
-    if len(words) < 2 or not _is_number(words[0]) or words[1] not in SORTS:
+    if len(words) < 2 or not is_number(words[0]) or words[1] not in SORTS:
         raise NoText(at)
     sorts = SORTS[words[1]]
     parts = words[2:]
@@ -123,17 +123,17 @@ def _is_written(sort, part):
     if sort == "given":
         return _are_names(part)
     if sort in ("word", "label"):
-        return _is_number(part)
+        return is_number(part)
     if sort == "sign":
         return part in SIGNS
-    return is_name(part) or (sort == "side" and _is_number(part))
+    return is_name(part) or (sort == "side" and is_number(part))
 
 
 def _part_read(part):
     """The part that a word, or the words of what is given, write."""
     if isinstance(part, list):
         return tuple(part)
-    return int(part) if _is_number(part) else part
+    return int(part) if is_number(part) else part
 
 
 def _are_names(words):
@@ -141,7 +141,7 @@ def _are_names(words):
     return all([is_name(word) for word in words])
 
 
-def _is_number(word):
+def is_number(word):
     """Whether the word is a number as it has to be written."""
     figures = word[1:] if word.startswith("-") else word
     if not 1 <= len(figures) <= MOST_FIGURES or any([figure not in FIGURES for figure in figures]):

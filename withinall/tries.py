@@ -2,7 +2,7 @@
 
 from withinall.cuts import between, reached, tested
 from withinall.leads import CONTRARY
-from withinall.sums import pairs, twice
+from withinall.sums import pairs, sum_of, twice
 
 SUMS = ("plus", "minus", "times", "over", "rest")
 
@@ -97,7 +97,7 @@ def _met(act, numbers, width):
         met.extend([(first, second) for second in pairs(word, (first, first), seconds, width=width)[2]])
     for second in seconds:
         met.extend([(first, second) for first in pairs(word, firsts, (second, second), width=width)[1]])
-    come_to = [_sum_of(word, first, second) for first, second in met]
+    come_to = [sum_of(word, first, second) for first, second in met]
     return met + [_pair_for(word, result, firsts, seconds) for result in results if result not in come_to]
 
 
@@ -105,20 +105,9 @@ def _pair_for(word, result, firsts, seconds):
     """The first pair of which the sum comes to this result, which one of them does."""
     for first in range(firsts[0], firsts[1] + 1):
         for second in range(seconds[0], seconds[1] + 1):
-            if (second != 0 or word == "times") and _sum_of(word, first, second) == result:
+            if (second != 0 or word == "times") and sum_of(word, first, second) == result:
                 return (first, second)
     return None
-
-
-def _sum_of(word, first, second):
-    """What the sum of two words comes to."""
-    if word == "plus":
-        return first + second
-    if word == "minus":
-        return first - second
-    if word == "times":
-        return first * second
-    return first // second if word == "over" else first % second
 
 
 def doubtful(spot, box):
