@@ -227,6 +227,26 @@ class TestCauses(BookCase):
                                 (("main", 1),): ("from", ("f", 1)), (("g", 0),): ("from", ("main", 1)),
                                 (("main", 2),): ("from", ("main", 1))})
 
+    def test_two_at_once(self):
+        """The first cause, in the order of point 17, of each two that hold of one group."""
+        group = (("h", 5),)
+        changes = {
+            "width": lambda program: (8, program[1]),
+            "def": lambda program: with_head(program, "h", "h", ("u", "v")),
+            "first": lambda program: with_step(program, "h", 3, ("tell", "u")),
+            "step": lambda program: with_step(program, "h", 5, ("set", "u", 1)),
+            "from": lambda program: (program[0], (*program[1], ("k", (), (), (), (
+                (0, ("call", "x", "h", ("x", "x")[:len(dict((one[0], one[1]) for one in program[1])["h"])])),
+                (1, ("back", "x")))))),
+        }
+        whole = {"width": ("width",), "def": ("def", "h"), "first": ("first", "h"), "step": ("step", ("h", 5)),
+                 "from": ("from", ("k", 0))}
+        for at, one in enumerate(changes):
+            self.assertEqual(self.edit(LOOP, changes[one](LOOP))[group], whole[one])
+            for other in list(changes)[at + 1:]:
+                self.assertEqual(self.edit(LOOP, changes[other](changes[one](LOOP)))[group], whole[one], (one, other))
+                self.assertEqual(self.edit(changes[other](changes[one](LOOP)), LOOP)[group], whole[one], (one, other))
+
     def test_kept_where_the_box_stays(self):
         """Another act ahead that leads to the same box: what hangs on that box alone is kept."""
         other = with_step(LOOP, "f", 0, ("add", "u", "u", 1))

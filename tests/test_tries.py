@@ -68,7 +68,7 @@ class TestCorners(TriesCase):
 
 class TestTries(TriesCase):
     def test_numbers(self):
-        for shape in (*SHAPES, (("p", "q", "r"), ("a", "b"), 3)):
+        for shape in (*SHAPES, (("p", "q", "r"), ("a", "b"), 3), (("p", "q"), (), 2)):
             for act in acts_of_numbers(shape[2]):
                 self.check_act(act, (shape,), 6)
 

@@ -97,15 +97,16 @@ def _met(act, numbers, width):
         met.extend([(first, second) for second in pairs(word, (first, first), seconds, width=width)[2]])
     for second in seconds:
         met.extend([(first, second) for first in pairs(word, firsts, (second, second), width=width)[1]])
+    # Where 0 is the least or the greatest product it is that of an end, so what is left to look for is by no 0.
     come_to = [sum_of(word, first, second) for first, second in met]
     return met + [_pair_for(word, result, firsts, seconds) for result in results if result not in come_to]
 
 
 def _pair_for(word, result, firsts, seconds):
-    """The first pair of which the sum comes to this result, which one of them does."""
+    """The first pair of which the sum comes to this result, which one of them does but by 0."""
     for first in range(firsts[0], firsts[1] + 1):
         for second in range(seconds[0], seconds[1] + 1):
-            if (second != 0 or word == "times") and sum_of(word, first, second) == result:
+            if second != 0 and sum_of(word, first, second) == result:
                 return (first, second)
     return None
 
