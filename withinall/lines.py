@@ -103,7 +103,7 @@ def _lines_read(rows, at):
         left = None
         while len(heads) > 0 and heads[-1].depth >= depth:
             left = heads.pop()
-        act = act_read(words)
+        act = _act_read(words)
         if act is None or (act[0] == "else" and (left is None or left.act[0] != "if")):
             raise NoText(at)
         line = Line(at, depth, act, heads[-1] if len(heads) > 0 else None)
@@ -134,7 +134,7 @@ def _may_end(lines):
     return len(lines) > 0 and lines[-1].depth == 1 and lines[-1].act[0] == "back"
 
 
-def act_read(words):
+def _act_read(words):
     """What the words of a line do, None where they are no line."""
     if len(words) > 4 and words[1] == "=" and words[3] == "(" and words[-1] == ")":
         named = [words[0], words[2], *words[4:-1]]
